@@ -1,4 +1,4 @@
-// Package wire writes messages as bytes, and reads messages and records from them.
+// Package wire writes messages and records as bytes, and reads them again.
 package wire
 
 const (

@@ -4,6 +4,11 @@ import "accord/api"
 
 const recordTxPlace = kindPlace + 1
 
+// WriteRecord takes right records only: none comes from outside the program.
+func WriteRecord(r api.Record) string {
+	return seal(recordMark, string([]byte{byte(r.Kind)})+writeTx(r.Tx))
+}
+
 // ReadLog reads records from the beginning of the bytes. If the last whole one
 // does not end them, the error is a LogError; the records are told all the same.
 func ReadLog(b string) ([]api.Record, error) {

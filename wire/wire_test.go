@@ -112,3 +112,24 @@ func TestReadLogTellsWhereItWasMet(t *testing.T) {
 		t.Errorf("a whole log: %v, %v", records, err)
 	}
 }
+
+func TestWriteRecord(t *testing.T) {
+	for _, c := range []struct {
+		r    api.Record
+		want string
+	}{
+		{api.Record{Kind: api.Began, Tx: 1}, "\x2d\x02\x01\x01"},
+		{api.Record{Kind: api.Prepared, Tx: 40}, "\x2d\x02\x02\x28"},
+		{api.Record{Kind: api.Committed, Tx: 127}, "\x2d\x02\x03\x7f"},
+		{api.Record{Kind: api.Aborted, Tx: 300}, "\x2d\x03\x04\xac\x02"},
+		{api.Record{Kind: api.Ended, Tx: 16383}, "\x2d\x03\x05\xff\x7f"},
+	} {
+		want := c.want + sumBytes(c.want)
+		if b := WriteRecord(c.r); b != want {
+			t.Errorf("WriteRecord(%v) = %x; want %x", c.r, b, want)
+		}
+		if records, err := ReadLog(want); len(records) != 1 || records[0] != c.r || err != nil {
+			t.Errorf("ReadLog(%x) = %v, %v; want %v", want, records, err, c.r)
+		}
+	}
+}
