@@ -3,7 +3,6 @@ package accord_test
 import (
 	"testing"
 
-	"accord/accord"
 	"accord/api"
 )
 
@@ -64,116 +63,6 @@ func TestDoubtEndsByAsking(t *testing.T) {
 		underWay(t, c, msg(outcome, 0, 1, 1))
 		delivers(t, c, 0, 0)
 		says(t, c, 1, want, want)
-	}
-}
-
-// chance gives numbers that look like chance but are the same in every run.
-type chance uint32
-
-func (c *chance) below(n int) int {
-	*c = *c*1664525 + 1013904223
-	return int(uint32(*c)>>8) % n
-}
-
-// watch holds a cluster against what was voted and what it has said before.
-type watch struct {
-	c     *accord.Cluster
-	nodes int
-	begun int
-	no    map[[2]int]bool // a participant and a transaction
-	said  map[[2]int]int
-}
-
-func watched(t *testing.T, wait int, sorts ...int) *watch {
-	return &watch{c: cluster(t, wait, sorts...), nodes: len(sorts), no: map[[2]int]bool{}, said: map[[2]int]int{}}
-}
-
-func (w *watch) refuse(t *testing.T, node, tx int) {
-	t.Helper()
-	answers(t, "Vote", w.c.Vote(node, tx, false), api.OK)
-	w.no[[2]int{node, tx}] = true
-}
-
-func (w *watch) begin(t *testing.T) {
-	t.Helper()
-	w.begun++
-	begins(t, w.c, w.begun)
-}
-
-// refused tells whether anybody is to vote no.
-func (w *watch) refused(tx int) bool {
-	for node := 1; node <= w.nodes; node++ {
-		if w.no[[2]int{node, tx}] {
-			return true
-		}
-	}
-	return false
-}
-
-// agree looks at P7, P8 and P9.
-func (w *watch) agree(t *testing.T) {
-	t.Helper()
-	for tx := 1; tx <= w.begun; tx++ {
-		ever := map[int]bool{}
-		for node := 0; node <= w.nodes; node++ {
-			k := [2]int{node, tx}
-			now, e := w.c.Outcome(node, tx)
-			answers(t, "Outcome", e, api.OK)
-			if before := w.said[k]; (before == api.Taken || before == api.Left) && now != before {
-				t.Fatalf("P9: the node %d had %d as %d, and has it as %d", node, tx, before, now)
-			}
-			w.said[k] = now
-			ever[now] = true
-		}
-		if ever[api.Taken] && ever[api.Left] {
-			t.Fatalf("P7: of %d some say it is committed, others that it is aborted", tx)
-		}
-		if ever[api.Taken] && w.refused(tx) {
-			t.Fatalf("P8: %d is committed, though one voted no", tx)
-		}
-	}
-}
-
-func (w *watch) ended() bool {
-	for tx := 1; tx <= w.begun; tx++ {
-		for node := 0; node <= w.nodes; node++ {
-			if now, _ := w.c.Outcome(node, tx); now == api.Open {
-				return false
-			}
-		}
-	}
-	net, _ := w.c.Net()
-	return len(net) == 0
-}
-
-// finish delivers all that is under way, and ticks, till all have ended.
-func (w *watch) finish(t *testing.T, pick func(n int) int) {
-	t.Helper()
-	for range api.MaxWait + 5 {
-		for net, _ := w.c.Net(); len(net) > 0; net, _ = w.c.Net() {
-			delivers(t, w.c, pick(len(net)))
-			w.agree(t)
-		}
-		if w.ended() {
-			w.whole(t)
-			return
-		}
-		ticks(t, w.c, 1)
-	}
-	t.Fatalf("P10: it comes to no end: %x", look(w.c))
-}
-
-// whole looks whether what ended is committed at all nodes or at none. (Of an
-// abort that was lost a node may know nothing, if nobody waited for its Ack.)
-func (w *watch) whole(t *testing.T) {
-	t.Helper()
-	for tx := 1; tx <= w.begun; tx++ {
-		want, _ := w.c.Outcome(1, tx)
-		for node := range w.nodes + 1 {
-			if now, _ := w.c.Outcome(node, tx); (now == api.Taken) != (want == api.Taken) {
-				t.Fatalf("P10: of %d the node 1 says %d, the node %d says %d", tx, want, node, now)
-			}
-		}
 	}
 }
 
@@ -267,7 +156,7 @@ func (w *watch) step(t *testing.T, r *chance) {
 }
 
 func TestAllAgreeWhateverIsLostAndDoubled(t *testing.T) {
-	for seed := range 300 {
+	for seed := range 150 {
 		r := chance(seed * 7919)
 		var sorts []int
 		for range 1 + r.below(api.MaxNodes) {

@@ -56,6 +56,8 @@ func (c *Cluster) Begin() (int, api.Errno) {
 		return 0, api.ErrNil
 	case c.begun == api.MaxTx:
 		return 0, api.ErrMany
+	case c.coordinator.IsDown():
+		return 0, api.ErrDown
 	}
 	c.begun++
 	c.net.Send(c.coordinator.Begin(c.begun)...)
@@ -87,7 +89,9 @@ func (c *Cluster) Deliver(i int) api.Errno {
 		return api.ErrIndex
 	}
 	m := c.net.Take(i)
-	c.net.Send(c.node(m.To).Receive(m)...)
+	if to := c.node(m.To); !to.IsDown() {
+		c.net.Send(to.Receive(m)...)
+	}
 	return api.OK
 }
 
@@ -125,7 +129,9 @@ func (c *Cluster) Tick() api.Errno {
 	sent := make([][]api.Message, 1+len(c.participants))
 	var work sync.WaitGroup
 	for i := range sent {
-		work.Go(func() { sent[i] = c.node(i).Tick() })
+		if node := c.node(i); !node.IsDown() {
+			work.Go(func() { sent[i] = node.Tick() })
+		}
 	}
 	work.Wait()
 	// Only now, and node by node, so that the net is one under every schedule.
@@ -137,17 +143,31 @@ func (c *Cluster) Tick() api.Errno {
 
 // Crash lets a node fall (P5).
 func (c *Cluster) Crash(node int, keep int) api.Errno {
-	if c == nil {
+	switch {
+	case c == nil:
 		return api.ErrNil
+	case !c.hasNode(node):
+		return api.ErrNode
+	case keep < 0:
+		return api.ErrArg
+	case c.node(node).IsDown():
+		return api.ErrDown
 	}
+	c.node(node).Fall(keep)
 	return api.OK
 }
 
 // Restart lets a node come again (P5).
 func (c *Cluster) Restart(node int) api.Errno {
-	if c == nil {
+	switch {
+	case c == nil:
 		return api.ErrNil
+	case !c.hasNode(node):
+		return api.ErrNode
+	case !c.node(node).IsDown():
+		return api.ErrUp
 	}
+	c.net.Send(c.node(node).Return()...)
 	return api.OK
 }
 
@@ -172,6 +192,8 @@ func (c *Cluster) Outcome(node int, tx int) (int, api.Errno) {
 		return 0, api.ErrNode
 	case tx < 1 || tx > c.begun:
 		return 0, api.ErrTx
+	case c.node(node).IsDown():
+		return 0, api.ErrDown
 	}
 	return c.node(node).Outcome(tx), api.OK
 }

@@ -189,3 +189,57 @@ func TestDecodeOfAnything(t *testing.T) {
 		}
 	}
 }
+
+// turn fails if any way of turning these bytes, of many, leaves a message that is read.
+func turn(t *testing.T, b string, start, size int) {
+	t.Helper()
+	try := func(turned string) {
+		x := []byte(b)
+		for i := range size {
+			x[start+i] ^= turned[i]
+		}
+		if m, e := accord.Decode(string(x)); string(x) != b && (e == api.OK || m != (api.Message{})) {
+			t.Fatalf("Decode(%x) = %v, %d; it was %x", x, m, e, b)
+		}
+	}
+	for _, turned := range contents("\x00\x01\x80\xff", size) {
+		if len(turned) == size {
+			try(turned)
+		}
+	}
+	for seed := range uint32(300) {
+		try(noise(seed*31+uint32(start), size))
+	}
+}
+
+func TestTurnedBytesThatStandTogetherAreNotRead(t *testing.T) {
+	for _, m := range []api.Message{
+		{Kind: api.Prepare, From: 0, To: 2, Tx: 5},
+		{Kind: api.Prepare, From: 0, To: 2, Tx: 300},
+		{Kind: api.Ack, From: 6, To: 0, Tx: 127},
+		{Kind: api.Inquire, From: 1, To: 0, Tx: 16383},
+	} {
+		b := messageText(m)
+		sum := len(b) - 4
+		for size := 1; size <= 4; size++ {
+			for start := 0; start+size <= sum; start++ {
+				turn(t, b, start, size)
+			}
+			for start := sum; start+size <= len(b); start++ {
+				turn(t, b, start, size)
+			}
+		}
+	}
+	// Every way to turn two.
+	b := messageText(api.Message{Kind: api.Commit, From: 0, To: 1, Tx: 1})
+	for start := range 5 {
+		for turned := 1; turned < 1<<16; turned++ {
+			x := []byte(b)
+			x[start] ^= byte(turned)
+			x[start+1] ^= byte(turned >> 8)
+			if m, e := accord.Decode(string(x)); e == api.OK || m != (api.Message{}) {
+				t.Fatalf("Decode(%x) = %v, %d; it was %x", x, m, e, b)
+			}
+		}
+	}
+}

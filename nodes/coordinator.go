@@ -77,6 +77,31 @@ func (c *Coordinator) Tick() []api.Message {
 	return sent
 }
 
+// Fall loses what is not safe, and what is open.
+func (c *Coordinator) Fall(keep int) {
+	c.fall(keep)
+	clear(c.open)
+	clear(c.votes)
+	clear(c.awaited)
+}
+
+// Return lets it come again, and gives what it sends.
+func (c *Coordinator) Return() []api.Message {
+	ended := set{}
+	for _, r := range c.comeAgain() {
+		if r.Kind == api.Ended {
+			ended.add(c.key(r.Tx))
+		}
+	}
+	var sent []api.Message
+	for _, tx := range rising(c.known) {
+		if !ended.has(c.key(tx)) {
+			sent = append(sent, c.resume(tx)...)
+		}
+	}
+	return sent
+}
+
 // Outcome tells how a transaction stands here.
 func (c *Coordinator) Outcome(tx int) int {
 	if _, open := c.open[c.key(tx)]; open {
@@ -133,6 +158,21 @@ func (c *Coordinator) urge(tx int) []api.Message {
 	}
 	c.open[c.key(tx)] = m
 	return c.tell(api.Prepare, tx, c.silent(tx))
+}
+
+// resume takes up what had not ended. The log does not tell who was left out,
+// nor who has acknowledged, so that all are waited for.
+func (c *Coordinator) resume(tx int) []api.Message {
+	switch c.known[c.key(tx)] {
+	case api.Began:
+		// Nobody can have been told of a commit: its record would be safe.
+		return c.decide(api.Abort, tx, nobody)
+	case api.Committed:
+		c.await(api.Commit, tx, c.allBut(nobody))
+	case api.Aborted:
+		c.await(api.Abort, tx, c.allBut(nobody))
+	}
+	return nil
 }
 
 // decide settles what was collecting. Who is left out knows the outcome

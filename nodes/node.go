@@ -14,6 +14,9 @@ import (
 type Node interface {
 	Receive(m api.Message) []api.Message
 	Tick() []api.Message
+	Fall(keep int)
+	Return() []api.Message
+	IsDown() bool
 	Outcome(tx int) int
 	Log() (text string, safe int)
 }
@@ -46,6 +49,7 @@ type base struct {
 	number int
 	log    journal.Log
 	known  map[key]int // the kind of the last record that says how it stands
+	down   bool
 }
 
 func newBase(number int) base {
@@ -55,13 +59,37 @@ func newBase(number int) base {
 // Log gives the node's log, and how many bytes of it are safe.
 func (b *base) Log() (text string, safe int) { return b.log.Text(), b.log.Safe() }
 
+// IsDown tells whether the node has fallen and not come again.
+func (b *base) IsDown() bool { return b.down }
+
+func (b *base) fall(keep int) {
+	b.log.Fall(keep)
+	clear(b.known)
+	b.down = true
+}
+
+// comeAgain gives the records from which the node knows what it knows now.
+func (b *base) comeAgain() []api.Record {
+	records := b.log.Recover()
+	for _, r := range records {
+		b.learn(r)
+	}
+	b.down = false
+	return records
+}
+
 func (b *base) key(tx int) key { return key{node: b.number, tx: tx} }
 
 func (b *base) write(kind, tx int) {
-	b.log.Write(api.Record{Kind: kind, Tx: tx})
+	r := api.Record{Kind: kind, Tx: tx}
+	b.log.Write(r)
+	b.learn(r)
+}
+
+func (b *base) learn(r api.Record) {
 	// That it ended says nothing of how: what is known of it stays.
-	if kind != api.Ended {
-		b.known[b.key(tx)] = kind
+	if r.Kind != api.Ended {
+		b.known[b.key(r.Tx)] = r.Kind
 	}
 }
 

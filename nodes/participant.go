@@ -45,6 +45,16 @@ func (p *Participant) Tick() []api.Message {
 	return sent
 }
 
+// Fall loses what is not safe. How it is to vote is told from outside, and
+// holds from then on: it is not lost.
+func (p *Participant) Fall(keep int) { p.fall(keep) }
+
+// Return lets it come again; it sends nothing till it is asked, or has a tick.
+func (p *Participant) Return() []api.Message {
+	p.comeAgain()
+	return nil
+}
+
 // Outcome tells how a transaction stands here.
 func (p *Participant) Outcome(tx int) int { return told(p.known[p.key(tx)]) }
 
